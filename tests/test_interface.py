@@ -1,0 +1,30 @@
+"""The interface: each name is defined in its file and takes the told arguments, and rests on no other module's def."""
+
+import importlib
+import inspect
+import unittest
+
+INTERFACE = {
+    "fractions": {"is_fraction": 1, "fraction_of": 2, "fraction_sum": 2, "fraction_times": 2, "fraction_over": 2,
+                  "row_parts": 2},
+    "tables": {"is_table": 1, "is_unit": 1, "is_row": 2, "unit": 1, "row_times": 2, "times": 2, "turned_over": 1,
+               "stacked": 2},
+    "deeds": {"done": 2, "deeds_table": 2, "led_back": 1},
+    "backs": {"corner_of": 1, "corners_of": 2, "back_of": 1, "is_back": 2},
+    "texts": {"fraction_text": 1, "row_text": 1, "read_fraction": 1, "read_row": 1, "table_lines": 1, "deeds_lines": 1,
+              "read_table": 1, "read_deeds": 2},
+}
+
+
+class Interface(unittest.TestCase):
+    def test_each_name_is_defined_in_its_file(self):
+        for module, names in INTERFACE.items():
+            loaded = importlib.import_module("stepforms." + module)
+            for name, count in names.items():
+                told = getattr(loaded, name)
+                self.assertEqual(told.__module__, loaded.__name__)
+                self.assertEqual(len(inspect.signature(told).parameters), count, name)
+
+
+if __name__ == "__main__":
+    unittest.main()
