@@ -8,7 +8,7 @@ VERY_LONG = 10 ** 3999 + 7
 
 # Things that are no fraction, no row, no table, no deeds, no paper.
 ODD_THINGS = [
-    None, True, False, 0, 1, -1, VERY_LONG, "", "steps", "swap 0 1", [], [1], [[]], ((),), ((), ()), ("",),
+    None, True, False, 0, 1, -1, VERY_LONG, "", "steps", "swap 0 1", (), [], [1], [[]], ((),), ((), ()), ("",),
     (None,), (True,), (True, False), (1,), ("a", "b"), [1, 2], [(1, 2)], ((1, 2),), (1, 2, 3), (1, 2, 3, 4),
     (None, None), ("steps", 1, 2, 3), ((((((),),),),),),
 ]
@@ -77,6 +77,35 @@ def plain_corner(rows):
         return 1
     return sum((-1) ** at * number * plain_corner([row[:at] + row[at + 1:] for row in rows[1:]])
                for at, number in enumerate(rows[0]))
+
+
+def listed(thing):
+    """The thing as a list, where it is a tuple."""
+    return list(thing) if isinstance(thing, tuple) else thing
+
+
+def at_each_depth(thing, change):
+    """All copies of the thing with one part, at any depth, changed by the change, where this changes it."""
+    found = [] if same(change(thing), thing) else [change(thing)]
+    if isinstance(thing, tuple):
+        for place, part in enumerate(thing):
+            found += [thing[:place] + (other,) + thing[place + 1:] for other in at_each_depth(part, change)]
+    return found
+
+
+def as_truth(thing):
+    """True for 1, False for 0."""
+    return thing == 1 if isinstance(thing, int) and thing in (0, 1) else thing
+
+
+def wrong_kinds(paper):
+    """The paper with one tuple made a list, or one 0 or 1 made a truth, or one part made None, at any depth."""
+    return [copy for change in (listed, as_truth, lambda thing: None) for copy in at_each_depth(paper, change)]
+
+
+def wrong_counts(paper):
+    """The paper with one thing more or one thing fewer."""
+    return [paper[:-1], paper + (0,), paper + ((0, ()),), paper[1:], (), paper[:1]]
 
 
 class Case(unittest.TestCase):

@@ -13,6 +13,12 @@ INTERFACE = {
     "backs": {"corner_of": 1, "corners_of": 2, "back_of": 1, "is_back": 2},
     "texts": {"fraction_text": 1, "row_text": 1, "read_fraction": 1, "read_row": 1, "table_lines": 1, "deeds_lines": 1,
               "read_table": 1, "read_deeds": 2},
+    "stepchecker": {"is_steps": 1, "lets_steps": 2},
+    "stepping": {"steps_of": 1, "steps_paper": 1, "leads_of": 1, "rank_of": 1, "steps_deeds": 1},
+    "alikechecker": {"lets_alike": 3},
+    "aliking": {"alike_paper": 2, "are_alike": 2},
+    "shortchecker": {"lets_short": 2},
+    "shorts": {"short_paper": 1, "short_lengths": 1},
 }
 
 
