@@ -1,27 +1,9 @@
 """The checker of ALIKE PAPERS and APART PAPERS."""
 
 from stepforms.errors import NoPaper
-from stepforms.fractions import is_fraction, is_number, row_parts
-from stepforms.papers import first_unlike_row, is_paper, is_table_of, refuse_at
+from stepforms.fractions import is_number
+from stepforms.papers import are_parts, first_not_whole, first_unlike_row, is_paper, is_table_of, is_whole_by, refuse_at
 from stepforms.tables import times
-
-
-def are_parts(wide, thing):
-    """Tell of any thing whether it is a tuple of so many FRACTIONS."""
-    return isinstance(thing, tuple) and len(thing) == wide and all([is_fraction(part) for part in thing])
-
-
-def is_whole_by(row, parts):
-    """Tell whether the ROW is whole by parts."""
-    return row_parts(row, parts)[1] == 1
-
-
-def first_not_whole(table, parts):
-    """Tell the least row of the TABLE that isn't whole by parts, None where there is none."""
-    for at, row in enumerate(table[1]):
-        if not is_whole_by(row, parts):
-            return at
-    return None
 
 
 def has_alike_shape(one, other, thing):

@@ -5,14 +5,21 @@ from stepforms.stepchecker import lead_of
 from stepforms.tables import row_scaled, row_sum
 
 
-def rest_by(form, point):
-    """Tell the POINT less a POINT of the LATTICE of a table in STEPS: NOUGHT just where it is in the LATTICE."""
+def divided_by(form, point):
+    """Tell (numbers, rest) of a POINT by a table in STEPS: the numbers TIMES it and the rest, added, are the POINT."""
     rest = point
+    numbers = []
     for row in form[1]:
         lead = lead_of(row)
-        if lead is not None:
-            rest = row_sum(rest, row_scaled(row, -(rest[lead] // row[lead])))
-    return rest
+        number = 0 if lead is None else rest[lead] // row[lead]
+        numbers.append(number)
+        rest = row_sum(rest, row_scaled(row, -number))
+    return (tuple(numbers), rest)
+
+
+def rest_by(form, point):
+    """Tell the REST of the POINT by a table in STEPS: NOUGHT just where the POINT is in the LATTICE."""
+    return divided_by(form, point)[1]
 
 
 def part_at(form, rest, column):

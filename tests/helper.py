@@ -1,6 +1,9 @@
 """What the tests share: things of all kinds, tables by seeds, and plain ways to look at answers."""
 
 import copy
+import fractions
+import itertools
+import math
 import random
 import unittest
 
@@ -43,6 +46,50 @@ def tables_by(seed, count, most=9):
     return found
 
 
+def wide_tables_by(seed, count, most=9, rows=4):
+    """Tables of none to so many rows, 1 to 4 wide, some with NOUGHT rows, with rows twice or on one line."""
+    dice = random.Random(seed)
+    found = []
+    for _ in range(count):
+        wide, many = dice.randint(1, 4), dice.randint(0, rows)
+        table = list(table_by(dice, many, wide, dice.choice([1, 2, most]))[1])
+        for at in range(many):
+            if dice.random() < 0.2:
+                times = dice.randint(-2, 2)
+                table[at] = tuple(times * n for n in table[dice.randrange(many)])
+        found.append((wide, tuple(table)))
+    return found
+
+
+def point_by(dice, wide, most=999):
+    """A point of so many numbers, by the dice."""
+    return tuple(dice.randint(-most, most) for _ in range(wide))
+
+
+def lattice_point(dice, table, most=9):
+    """Some point of the table's lattice, by the dice, with the numbers that make it."""
+    numbers = point_by(dice, len(table[1]), most)
+    return plain_times((len(numbers), (numbers,)), table)[1][0], numbers
+
+
+def less(one, other):
+    """One row less another."""
+    return tuple(a - b for a, b in zip(one, other))
+
+
+def plus(one, other):
+    """One row and another, added."""
+    return tuple(a + b for a, b in zip(one, other))
+
+
+def scaled(row, number):
+    return tuple(number * n for n in row)
+
+
+def nought(row):
+    return all(n == 0 for n in row)
+
+
 def deeds_by(dice, many, count, most=9):
     """So many deeds for so many rows, by the dice."""
     found = []
@@ -77,6 +124,33 @@ def plain_corner(rows):
         return 1
     return sum((-1) ** at * number * plain_corner([row[:at] + row[at + 1:] for row in rows[1:]])
                for at, number in enumerate(rows[0]))
+
+
+def plain_whole(row, parts):
+    """Whether the row's numbers times the parts, added, are whole."""
+    return sum((n * fractions.Fraction(*part) for n, part in zip(row, parts)), fractions.Fraction(0)).denominator == 1
+
+
+def plain_turned(table):
+    return (len(table[1]), tuple(tuple(row[k] for row in table[1]) for k in range(table[0])))
+
+
+def plain_downs(table):
+    """The numbers on the way down of the table's rounds, by the greatest common divisors of its corners."""
+    wide, rows = table
+    ahead, downs = 1, []
+    for k in range(1, min(wide, len(rows)) + 1):
+        shared = math.gcd(*[plain_corner([tuple(row[c] for c in columns) for row in chosen])
+                            for chosen in itertools.combinations(rows, k)
+                            for columns in itertools.combinations(range(wide), k)])
+        downs.append(shared // ahead if shared else 0)
+        ahead = shared or 1
+    return tuple(downs)
+
+
+def plain_rounds(wide, many, downs):
+    """The table of so many rows, so wide, with these numbers on the way down."""
+    return (wide, tuple(tuple(downs[i] if i == j else 0 for j in range(wide)) for i in range(many)))
 
 
 def listed(thing):

@@ -19,6 +19,16 @@ INTERFACE = {
     "aliking": {"alike_paper": 2, "are_alike": 2},
     "shortchecker": {"lets_short": 2},
     "shorts": {"short_paper": 1, "short_lengths": 1},
+    "pointchecker": {"lets_point": 3},
+    "points": {"point_paper": 2, "rest_of": 2},
+    "answerchecker": {"lets_answers": 3, "free_rows": 1, "answer_at": 2, "numbers_of": 2},
+    "answers": {"answers_paper": 2},
+    "lattices": {"form_of": 1, "most_of": 1, "joined": 2, "common_part": 2, "inside": 2, "index_of": 2},
+    "keeper": {"Keeper": 1},
+    "roundchecker": {"is_rounds": 1, "downs_of": 1, "lets_rounds": 2},
+}
+METHODS = {
+    ("keeper", "Keeper"): {"put": 1, "out": 1, "kept": 0, "form_now": 0, "rest": 1, "has": 1, "paper": 1},
 }
 
 
@@ -30,6 +40,13 @@ class Interface(unittest.TestCase):
                 told = getattr(loaded, name)
                 self.assertEqual(told.__module__, loaded.__name__)
                 self.assertEqual(len(inspect.signature(told).parameters), count, name)
+
+    def test_each_method_is_defined_in_its_class(self):
+        for (module, name), methods in METHODS.items():
+            told = getattr(importlib.import_module("stepforms." + module), name)
+            for method, count in methods.items():
+                self.assertIn(method, vars(told))
+                self.assertEqual(len(inspect.signature(vars(told)[method]).parameters), count + 1, method)
 
 
 if __name__ == "__main__":

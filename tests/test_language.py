@@ -28,6 +28,8 @@ METHODS = set(
     " discard sort translate".split())
 BARRED_NODES = (ast.Global, ast.AsyncFunctionDef, ast.AsyncFor, ast.AsyncWith, ast.Await, ast.Import, ast.Div,
                 ast.MatMult)
+ITERATED_AT_ONCE = set("range zip enumerate reversed items keys values".split())
+TAKERS = set("list tuple dict sorted sum any all enumerate zip bytes min max".split())
 
 
 def trees():
@@ -92,12 +94,47 @@ class Language(unittest.TestCase):
                 self.assertEqual([found for found, row in bound].count(name), 1, (path, name))
 
     def test_builtins_and_methods(self):
+        own = {method.name for tree in trees().values() for node in ast.walk(tree) if isinstance(node, ast.ClassDef)
+               for method in node.body if isinstance(method, ast.FunctionDef)}
         for path, tree in trees().items():
             for node in ast.walk(tree):
                 if isinstance(node, ast.Name) and node.id in dir(builtins):
                     self.assertIn(node.id, ALLOWED_BUILTINS, (path, node.lineno))
                 if isinstance(node, ast.Call) and isinstance(node.func, ast.Attribute):
-                    self.assertIn(node.func.attr, METHODS, (path, node.lineno))
+                    self.assertIn(node.func.attr, METHODS | own, (path, node.lineno))
+
+    def test_what_is_iterated_at_once_is_not_stored(self):
+        for path, tree in trees().items():
+            for node in ast.walk(tree):
+                for part in ast.iter_child_nodes(node):
+                    if not isinstance(part, ast.Call):
+                        continue
+                    name = getattr(part.func, "id", getattr(part.func, "attr", None))
+                    if name not in ITERATED_AT_ONCE:
+                        continue
+                    taken = isinstance(node, ast.Call) and getattr(node.func, "id", None) in TAKERS
+                    self.assertTrue(taken or isinstance(node, (ast.For, ast.comprehension)), (path, part.lineno))
+
+    def test_names_of_methods_and_attributes(self):
+        methods, attributes = set(), set()
+        for tree in trees().values():
+            for node in ast.walk(tree):
+                if isinstance(node, ast.ClassDef):
+                    methods |= {part.name for part in node.body if isinstance(part, ast.FunctionDef)}
+                if isinstance(node, ast.Attribute) and isinstance(node.ctx, ast.Store):
+                    attributes.add(node.attr)
+        self.assertFalse(methods & attributes)
+        for name in (methods - {"__init__"}) | attributes:
+            self.assertFalse(any(hasattr(kind, name) for kind in (str, int, list, dict, set, bytes)), name)
+
+    def test_names_stand_once_and_imports_are_used(self):
+        for path, tree in trees().items():
+            names = [node.name for node in tree.body if isinstance(node, (ast.FunctionDef, ast.ClassDef))]
+            names += [target.id for node in tree.body if isinstance(node, ast.Assign) for target in node.targets]
+            self.assertEqual(len(names), len(set(names)), path)
+            taken = [alias.name for node in tree.body if isinstance(node, ast.ImportFrom) for alias in node.names]
+            read = {node.id for node in ast.walk(tree) if isinstance(node, ast.Name)}
+            self.assertEqual([name for name in taken if name not in read], [], path)
 
     def test_imports(self):
         needs = {}
