@@ -26,6 +26,13 @@ INTERFACE = {
     "lattices": {"form_of": 1, "most_of": 1, "joined": 2, "common_part": 2, "inside": 2, "index_of": 2},
     "keeper": {"Keeper": 1},
     "roundchecker": {"is_rounds": 1, "downs_of": 1, "lets_rounds": 2},
+    "rounding": {"rounds_of": 1, "rounds_paper": 1, "rounds_deeds": 1},
+    "equalchecker": {"lets_equal": 3},
+    "equaling": {"equal_paper": 2},
+    "leaving": {"left_by": 1, "classes_of": 1, "order_of": 2, "killed_by": 2, "maps": 2, "beside": 2},
+    "places": {"place_of": 2, "place_sum": 3, "point_at": 2},
+    "polys": {"is_poly": 1, "poly_sum": 2, "poly_times": 2, "poly_scaled": 2, "poly_value": 2, "poly_over": 2,
+              "poly_shared": 2},
 }
 METHODS = {
     ("keeper", "Keeper"): {"put": 1, "out": 1, "kept": 0, "form_now": 0, "rest": 1, "has": 1, "paper": 1},
