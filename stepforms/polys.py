@@ -1,7 +1,7 @@
 """POLYS: looks of any thing, sums, products, values, division, and what two share."""
 
 from stepforms.errors import NoBack
-from stepforms.fractions import fraction_over, fraction_sum, fraction_times, is_fraction
+from stepforms.fractions import common_divisor, fraction_of, fraction_over, fraction_sum, fraction_times, is_fraction
 
 NOUGHT = (0, 1)
 
@@ -13,12 +13,17 @@ def is_poly(thing):
     return thing == () or thing[-1] != NOUGHT
 
 
-def trimmed(parts):
-    """Tell the POLY of a list of FRACTIONS, noughts at its end left out."""
-    end = len(parts)
-    while end > 0 and parts[end - 1] == NOUGHT:
+def is_monic(poly):
+    """Tell whether the POLY is MONIC."""
+    return poly != () and poly[-1] == (1, 1)
+
+
+def trimmed(things, nought):
+    """Tell the tuple of a list of things, noughts at its end left out."""
+    end = len(things)
+    while end > 0 and things[end - 1] == nought:
         end -= 1
-    return tuple(parts[:end])
+    return tuple(things[:end])
 
 
 def fraction_at(poly, power):
@@ -29,23 +34,41 @@ def fraction_at(poly, power):
 def poly_sum(one, other):
     """Tell the sum of two POLYS."""
     most = max(len(one), len(other))
-    return trimmed([fraction_sum(fraction_at(one, power), fraction_at(other, power)) for power in range(most)])
+    sums = [fraction_sum(fraction_at(one, power), fraction_at(other, power)) for power in range(most)]
+    return trimmed(sums, NOUGHT)
+
+
+def shared_bottom(fractions):
+    """Tell the least NUMBER above 0 that the bottoms of all the FRACTIONS divide."""
+    shared = 1
+    for top, bottom in fractions:
+        shared *= bottom // common_divisor(shared, bottom)
+    return shared
+
+
+def tops_over(fractions, shared):
+    """Tell the list of the tops that the FRACTIONS have over the one shared bottom."""
+    return [top * (shared // bottom) for top, bottom in fractions]
 
 
 def poly_times(one, other):
     """Tell the product of two POLYS."""
     if one == () or other == ():
         return ()
-    parts = [NOUGHT] * (len(one) + len(other) - 1)
-    for power, part in enumerate(one):
-        for more, factor in enumerate(other):
-            parts[power + more] = fraction_sum(parts[power + more], fraction_times(part, factor))
-    return tuple(parts)
+    # Over one bottom, so that a common divisor is sought once for each power, not for each pair of FRACTIONS.
+    shared = shared_bottom(one)
+    others_shared = shared_bottom(other)
+    others = tops_over(other, others_shared)
+    sums = [0] * (len(one) + len(other) - 1)
+    for power, top in enumerate(tops_over(one, shared)):
+        for more, factor in enumerate(others):
+            sums[power + more] += top * factor
+    return tuple([fraction_of(total, shared * others_shared) for total in sums])
 
 
 def poly_scaled(poly, fraction):
     """Tell the POLY times the FRACTION."""
-    return trimmed([fraction_times(part, fraction) for part in poly])
+    return trimmed([fraction_times(part, fraction) for part in poly], NOUGHT)
 
 
 def poly_value(poly, fraction):
@@ -54,6 +77,11 @@ def poly_value(poly, fraction):
     for part in reversed(poly):
         total = fraction_sum(fraction_times(total, fraction), part)
     return total
+
+
+def fraction_less(one, other):
+    """Tell the one FRACTION less the other."""
+    return fraction_sum(one, (-other[0], other[1]))
 
 
 def poly_less(one, other):
@@ -65,13 +93,15 @@ def poly_over(one, other):
     """Tell (quotient, rest) of the one POLY divided by the other; refuse by () with NoBack."""
     if other == ():
         raise NoBack(other)
-    quotient = ()
-    rest = one
-    while len(rest) >= len(other):
-        part = (NOUGHT,) * (len(rest) - len(other)) + (fraction_over(rest[-1], other[-1]),)
-        quotient = poly_sum(quotient, part)
-        rest = poly_less(rest, poly_times(part, other))
-    return (quotient, rest)
+    rest = list(one)
+    quotient = []
+    for power in range(len(one) - len(other), -1, -1):
+        part = fraction_over(rest[power + len(other) - 1], other[-1])
+        quotient.append(part)
+        for at, factor in enumerate(other):
+            rest[power + at] = fraction_less(rest[power + at], fraction_times(part, factor))
+    quotient.reverse()
+    return (tuple(quotient), trimmed(rest, NOUGHT))
 
 
 def made_monic(polys):

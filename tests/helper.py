@@ -153,6 +153,143 @@ def plain_rounds(wide, many, downs):
     return (wide, tuple(tuple(downs[i] if i == j else 0 for j in range(wide)) for i in range(many)))
 
 
+def poly(*numbers):
+    """The POLY of these whole numbers or Fractions."""
+    parts = [(fractions.Fraction(number).numerator, fractions.Fraction(number).denominator) for number in numbers]
+    while parts and parts[-1] == (0, 1):
+        parts.pop()
+    return tuple(parts)
+
+
+def plain(thing):
+    """The Fractions of a POLY."""
+    return [fractions.Fraction(*part) for part in thing]
+
+
+def plain_sum(one, other):
+    return poly(*[a + b for a, b in itertools.zip_longest(plain(one), plain(other), fillvalue=0)])
+
+
+def plain_product(one, other):
+    found = [fractions.Fraction(0)] * (len(one) + len(other))
+    for i, a in enumerate(plain(one)):
+        for j, b in enumerate(plain(other)):
+            found[i + j] += a * b
+    return poly(*found)
+
+
+def plain_rest(one, other):
+    """What is left of the one POLY divided by the other, which isn't ()."""
+    rest, other = plain(one), plain(other)
+    while len(rest) >= len(other):
+        part = rest[-1] / other[-1]
+        for at in range(1, len(other) + 1):
+            rest[-at] -= part * other[-at]
+        rest.pop()
+    return poly(*rest)
+
+
+def plain_shared(polys):
+    """The MONIC POLY that all these share, () where all are ()."""
+    shared = ()
+    for other in polys:
+        while other != ():
+            shared, other = other, plain_rest(shared, other)
+    return poly(*[part / plain(shared)[-1] for part in plain(shared)])
+
+
+def plain_ptimes(one, other):
+    """One table of POLYS times another, by the document's words."""
+    rows = []
+    for row in one[1]:
+        total = [()] * other[0]
+        for factor, behind in zip(row, other[1]):
+            total = [plain_sum(a, plain_product(factor, b)) for a, b in zip(total, behind)]
+        rows.append(tuple(total))
+    return (other[0], tuple(rows))
+
+
+def plain_punit(n):
+    return (n, tuple(tuple(poly(int(i == j)) for j in range(n)) for i in range(n)))
+
+
+def plain_pcorner(rows):
+    """The corner of as many rows of POLYS as columns, by the document's words."""
+    if not rows:
+        return poly(1)
+    total = ()
+    for at, first in enumerate(rows[0]):
+        part = plain_product(first, plain_pcorner([row[:at] + row[at + 1:] for row in rows[1:]]))
+        total = plain_sum(total, plain_product(part, poly((-1) ** at)))
+    return total
+
+
+def plain_pdone(table, deeds):
+    """A table of POLYS behind PDEEDS, by the document's words."""
+    wide, rows = table[0], list(table[1])
+    for deed in deeds:
+        i = deed[1]
+        if deed[0] == "swap":
+            rows[i], rows[deed[2]] = rows[deed[2]], rows[i]
+        elif deed[0] == "times":
+            rows[i] = tuple(plain_product(part, (deed[2],)) for part in rows[i])
+        else:
+            rows[i] = tuple(plain_sum(part, plain_product(deed[3], more)) for part, more in zip(rows[i], rows[deed[2]]))
+    return (wide, tuple(rows))
+
+
+def poly_by(dice, degree, top, bottom=1):
+    """A POLY of at most this degree, by the dice."""
+    size = dice.randint(0, degree + 1)
+    return poly(*[fractions.Fraction(dice.randint(-top, top), dice.randint(1, bottom)) for _ in range(size)])
+
+
+def ptable_by(dice, many, wide):
+    """A table of so many rows of POLYS, so wide, as great as one that is handed in, by the dice."""
+    degree, top, bottom = (1, 3, 1) if many == wide == 3 else (2, 9, 3)
+    return (wide, tuple(tuple(poly_by(dice, degree, top, bottom) for _ in range(wide)) for _ in range(many)))
+
+
+def ptables_by(seed, count):
+    """Tables of POLYS of none to three rows, 1 to 3 wide: ordinary ones, some with NOUGHT rows or with rows twice."""
+    dice = random.Random(seed)
+    found = []
+    for _ in range(count):
+        wide, rows = ptable_by(dice, dice.randint(0, 3), dice.randint(1, 3))
+        rows = list(rows)
+        for at in range(len(rows)):
+            rows[at] = dice.choice([rows[at], rows[at], rows[at], ((),) * wide, rows[dice.randrange(len(rows))]])
+        found.append((wide, tuple(rows)))
+    return found
+
+
+def pdeeds_by(dice, many, count, degree=2, top=9, bottom=3):
+    """So many PDEEDS for so many rows, by the dice."""
+    found = []
+    for _ in range(count if many > 0 else 0):
+        sort = dice.choice(["swap", "times", "add", "add"]) if many > 1 else "times"
+        if sort == "times":
+            factor = fractions.Fraction(dice.choice([-1, 1]) * dice.randint(1, top), dice.randint(1, bottom))
+            found.append((sort, dice.randrange(many), (factor.numerator, factor.denominator)))
+            continue
+        i, j = dice.sample(range(many), 2)
+        found.append((sort, i, j) if sort == "swap" else (sort, i, j, poly_by(dice, degree, top, bottom)))
+    return tuple(found)
+
+
+def pways_by(dice, many, count=4, degree=1):
+    """A table of POLYS with a BACK, and this, by the dice."""
+    there, back = plain_punit(many), plain_punit(many)
+    for deed in pdeeds_by(dice, many, count, degree, 3, 2):
+        there = plain_pdone(there, (deed,))
+        if deed[0] == "times":
+            deed = deed[:2] + (poly(1 / fractions.Fraction(*deed[2]))[0],)
+        elif deed[0] == "add":
+            deed = deed[:3] + (plain_product(deed[3], poly(-1)),)
+        back = plain_ptimes(back, plain_pdone(plain_punit(many), (deed,)))
+    return there, back
+
+
 def listed(thing):
     """The thing as a list, where it is a tuple."""
     return list(thing) if isinstance(thing, tuple) else thing

@@ -33,6 +33,12 @@ INTERFACE = {
     "places": {"place_of": 2, "place_sum": 3, "point_at": 2},
     "polys": {"is_poly": 1, "poly_sum": 2, "poly_times": 2, "poly_scaled": 2, "poly_value": 2, "poly_over": 2,
               "poly_shared": 2},
+    "ptables": {"is_ptable": 1, "punit": 1, "ptimes": 2, "pturned_over": 1},
+    "pdeeds": {"pdone": 2, "pdeeds_table": 2, "pled_back": 1},
+    "pcorners": {"pcorner": 1, "pback_of": 1},
+    "pstepchecker": {"is_psteps": 1, "lets_psteps": 2},
+    "pstepping": {"psteps_of": 1, "psteps_paper": 1},
+    "proundchecker": {"is_prounds": 1, "lets_prounds": 2},
 }
 METHODS = {
     ("keeper", "Keeper"): {"put": 1, "out": 1, "kept": 0, "form_now": 0, "rest": 1, "has": 1, "paper": 1},

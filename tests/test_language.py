@@ -49,6 +49,12 @@ def own_names(tree):
             yield node.asname or node.name, node.lineno
 
 
+def outer_names(tree):
+    """All names that a file defines at its module level, those of imports left out."""
+    names = [node.name for node in tree.body if isinstance(node, (ast.FunctionDef, ast.ClassDef))]
+    return names + [target.id for node in tree.body if isinstance(node, ast.Assign) for target in node.targets]
+
+
 class Language(unittest.TestCase):
     def test_files_and_signs(self):
         self.assertEqual(sorted(path.name for path in PACKAGE.iterdir() if path.name != "__pycache__"),
@@ -129,8 +135,7 @@ class Language(unittest.TestCase):
 
     def test_names_stand_once_and_imports_are_used(self):
         for path, tree in trees().items():
-            names = [node.name for node in tree.body if isinstance(node, (ast.FunctionDef, ast.ClassDef))]
-            names += [target.id for node in tree.body if isinstance(node, ast.Assign) for target in node.targets]
+            names = outer_names(tree)
             self.assertEqual(len(names), len(set(names)), path)
             taken = [alias.name for node in tree.body if isinstance(node, ast.ImportFrom) for alias in node.names]
             read = {node.id for node in ast.walk(tree) if isinstance(node, ast.Name)}
@@ -146,8 +151,7 @@ class Language(unittest.TestCase):
                     package, module = node.module.split(".")
                     self.assertEqual(package, "stepforms", path)
                     needs[path.stem].append(module)
-                    defined = [found.name for found in ast.parse((PACKAGE / (module + ".py")).read_text()).body
-                               if isinstance(found, (ast.FunctionDef, ast.ClassDef))]
+                    defined = outer_names(ast.parse((PACKAGE / (module + ".py")).read_text()))
                     for alias in node.names:
                         self.assertIn(alias.name, defined, path)
         while needs:

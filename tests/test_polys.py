@@ -6,38 +6,12 @@ from fractions import Fraction
 
 from stepforms.errors import NoBack
 from stepforms.polys import is_poly, poly_over, poly_scaled, poly_shared, poly_sum, poly_times, poly_value
-from tests.helper import ODD_THINGS, VERY_LONG, Case, wrong_kinds
+from tests.helper import ODD_THINGS, VERY_LONG, Case, plain, plain_product, plain_sum, poly, wrong_kinds
 
 ONE = ((1, 1),)
 X = ((0, 1), (1, 1))
 POLYS = [(), ONE, X, ((5, 3),), ((-1, 2), (0, 1), (7, 1)), ((0, 1), (0, 1), (-1, 9999)), ((VERY_LONG, 1), (1, VERY_LONG)),
          ((0, 1),) * 40 + ((1, 1),)]
-
-
-def poly(*numbers):
-    """The POLY of these whole numbers or Fractions."""
-    parts = [(Fraction(number).numerator, Fraction(number).denominator) for number in numbers]
-    while parts and parts[-1] == (0, 1):
-        parts.pop()
-    return tuple(parts)
-
-
-def plain(thing):
-    return [Fraction(*part) for part in thing]
-
-
-def plain_sum(one, other):
-    one, other = plain(one), plain(other)
-    size = max(len(one), len(other))
-    return poly(*[a + b for a, b in zip(one + [0] * (size - len(one)), other + [0] * (size - len(other)))])
-
-
-def plain_product(one, other):
-    found = [Fraction(0)] * (len(one) + len(other))
-    for i, a in enumerate(plain(one)):
-        for j, b in enumerate(plain(other)):
-            found[i + j] += a * b
-    return poly(*found)
 
 
 def polys_by(seed, count, degree=7, top=9999, bottom=9999):
