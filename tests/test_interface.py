@@ -39,9 +39,17 @@ INTERFACE = {
     "pstepchecker": {"is_psteps": 1, "lets_psteps": 2},
     "pstepping": {"psteps_of": 1, "psteps_paper": 1},
     "proundchecker": {"is_prounds": 1, "lets_prounds": 2},
+    "prounding": {"prounds_of": 1, "prounds_paper": 1},
+    "palikechecker": {"lets_palike": 3},
+    "paliking": {"palike_paper": 2},
+    "characters": {"character_of": 1, "poly_at": 2},
+    "twinchecker": {"lets_twins": 3},
+    "twinning": {"twins_paper": 2, "least_poly": 1},
+    "desk": {"Desk": 0},
 }
 METHODS = {
     ("keeper", "Keeper"): {"put": 1, "out": 1, "kept": 0, "form_now": 0, "rest": 1, "has": 1, "paper": 1},
+    ("desk", "Desk"): {"say": 1},
 }
 
 
