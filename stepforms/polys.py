@@ -38,17 +38,17 @@ def poly_sum(one, other):
     return trimmed(sums, NOUGHT)
 
 
-def shared_bottom(fractions):
+def shared_bottom(parts):
     """Tell the least NUMBER above 0 that the bottoms of all the FRACTIONS divide."""
     shared = 1
-    for top, bottom in fractions:
+    for top, bottom in parts:
         shared *= bottom // common_divisor(shared, bottom)
     return shared
 
 
-def tops_over(fractions, shared):
+def tops_over(parts, shared):
     """Tell the list of the tops that the FRACTIONS have over the one shared bottom."""
-    return [top * (shared // bottom) for top, bottom in fractions]
+    return [top * (shared // bottom) for top, bottom in parts]
 
 
 def poly_times(one, other):
